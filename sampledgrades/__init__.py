@@ -1,0 +1,1 @@
+"""Grades told from samples, exactly."""
