@@ -14,6 +14,10 @@ class Search:
         self.least = least
 
 
+def doubled(place):
+    return [2 * number for number in place]
+
+
 def is_looked_at(search, doubled_middle, place):
     for axis in range(3):
         if abs(2 * place[axis] - doubled_middle[axis]) > 2 * search.reach[axis]:

@@ -36,6 +36,14 @@ def sample_numbered(ground, number):
     return None
 
 
+# None if a number is no sample's, or comes twice.
+def samples_numbered(ground, numbers):
+    found = [sample_numbered(ground, number) for number in numbers]
+    if None in found or len(set(numbers)) < len(numbers):
+        return None
+    return found
+
+
 def add_sample(ground, place, value):
     ground.last_number = ground.last_number + 1
     ground.samples.append(Sample(ground.last_number, place, value))

@@ -16,3 +16,13 @@ def lowest_terms(above, below):
     if below < 0:
         divisor = -divisor
     return [above // divisor, below // divisor]
+
+
+# Brought to lowest terms once, at the end: on the way that would cost more than it saves.
+def sum_of_fractions(fractions):
+    above = 0
+    below = 1
+    for part in fractions:
+        above = above * part[1] + part[0] * below
+        below = below * part[1]
+    return lowest_terms(above, below)

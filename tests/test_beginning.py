@@ -2,7 +2,7 @@
 
 import unittest
 
-from words import COV, NEAR, POINT, SAMPLE, last, run
+from words import COV, NEAR, POINT, SAMPLE, TOLD, last, run
 
 
 class Beginning(unittest.TestCase):
@@ -18,6 +18,9 @@ class Beginning(unittest.TestCase):
         self.assertEqual(last((NEAR, 0, 0, 0)), [0, 0])
         self.assertEqual(last((POINT, 0, 0, 0)), [-5])
         self.assertEqual(last((SAMPLE, 0, 0, 0, 0)), [0, 1])
+
+    def test_told_tells_all_of_it(self):
+        self.assertEqual(run((TOLD,)), [[0, 1, 1, 100, 100, 100, 1000, 1000, 1000, 8, 8, 1, 0]])
 
     def test_samples_are_looked_for_up_to_1000(self):
         for axis in range(3):

@@ -4,7 +4,7 @@ import unittest
 
 import sampledgrades.ground
 from sampledgrades.ground import answers
-from words import COV, NEAR, POINT, SAMPLE, run
+from words import COV, NEAR, POINT, SAMPLE, TOLD, Reference, check_call, run
 
 LINE = [
     0, 2, 3, 50, 60, 70,
@@ -14,9 +14,50 @@ LINE = [
     4, 1, 6,
     7, 5, 0, 0,
     8, 0, 0, 0, 1, 2, 3, 2, 2, 1,
+    9, 5, 0, 0, 6,
+    10, 0, 0, 0, 1, -1, 0, 3,
+    11, 5, 0, 0, 2, 1, 2, 4, 1, 2, 1, 2,
+    11, 5, 0, 0, 0, 3, 1, 2, 3,
+    12,
+    13, 1, 2, 3,
+    14, 1, 2, 3, 2,
+    15, 0, 0, 0, 5, 5, 5,
+    16,
+    17,
+    5, 0, 0, 0, 1, 2, 3,
     3, 2,
     3, 2,
     6, 0, 0, 0,
+]
+
+# Each of the 18 calls, as it is told when it comes first, and what is answered then.
+FIRSTS = [
+    ((0, 1, 1, 1, 1, 1), [0]),
+    ((1, 1, 1, 1, 1, 1, 1), [0]),
+    ((2, 0, 0, 0, 0), [0, 1]),
+    ((3, 1), [-4]),
+    ((4, 1, 1), [-4]),
+    ((5, 0, 0, 0, 0, 0, 0), [0, 2, 1]),
+    ((6, 0, 0, 0), [0, 0]),
+    ((7, 0, 0, 0), [-5]),
+    ((8, 0, 0, 0, 1, 1, 1, 1, 1, 1), [-5]),
+    ((9, 0, 0, 0, 1), [-5]),
+    ((10, 0, 0, 0, 1, 1, 1, 2), [0, 0, 0, 1, 0, 0, 1]),
+    ((11, 0, 0, 0, 1, 1, 2, 1, 1), [-4]),
+    ((12,), [0, 0, 0, 1, 0, 1]),
+    ((13, 0, 0, 0), [-5]),
+    ((14, 0, 0, 0, 1), [-5]),
+    ((15, 0, 0, 0, 1, 1, 1), [-5]),
+    ((16,), [-5]),
+    ((17,), [0, 1, 1, 100, 100, 100, 1000, 1000, 1000, 8, 8, 1, 0]),
+]
+
+# All 18 calls once more, with samples there.
+ALL = [
+    (2, 1, 2, 3, 10), (2, 4, 2, 3, 20), (2, 1, 9, 3, 40), (0, 2, 3, 50, 60, 70), (1, 100, 100, 100, 4, 3, 1),
+    (4, 1, 11), (5, 0, 0, 0, 1, 2, 3), (6, 0, 0, 0), (7, 2, 2, 2), (8, 0, 0, 0, 1, 2, 3, 2, 2, 1), (9, 5, 0, 0, 6),
+    (10, 0, 0, 0, 1, -1, 0, 3), (11, 5, 0, 0, 2, 3, 2, 4, 1, 3, 2, 3), (12,), (13, 1, 2, 3), (14, 1, 2, 4, 2),
+    (15, 0, 0, 0, 5, 5, 5), (16,), (17,), (3, 2), (17,), (12,), (16,),
 ]
 
 
@@ -68,19 +109,63 @@ class Interface(unittest.TestCase):
         self.assertEqual(
             run((0, 0, 1, 1, 1, 1), (1, 0, 1, 1, 1, 1, 1), (2, 0, 0, 0, -1), (3, 1), (4, 1, -1),
                 (5, 0, 0, 0, 0, 0, 1001), (6, 0, 0, 1001), (7, 0, 0, 1001), (8, 0, 0, 0, 1, 1, 1, 1, 1, 5),
-                (NEAR, 0, 0, 0)),
-            [[-1], [-1], [-1], [-4], [-1], [-1], [-1], [-1], [-1], [0, 0]],
+                (9, 0, 0, 0, -1), (10, 0, 0, 0, 0, 0, 0, 11), (11, 0, 0, 1001, 1, 1, 2, 1, 1), (13, 0, 0, 1001),
+                (14, 0, 0, 0, 4), (15, 0, 0, 0, 1, 1, 0), (16,), (NEAR, 0, 0, 0)),
+            [[-1], [-1], [-1], [-4], [-1], [-1], [-1], [-1], [-1], [-1], [-1], [-1], [-1], [-1], [-1], [-5], [0, 0]],
         )
 
+    def test_rows_are_read_to_their_end_whatever_they_have(self):
+        for samples in (0, 1, 2, 8, 9, 39, 40):
+            for weights in (0, 1, 2, 3, 15, 16, 17, 18, 39, 40):
+                with self.subTest(samples=samples, weights=weights):
+                    told = run((11, 0, 0, 0, samples, *[7] * samples, weights, *[12] * weights), (TOLD,))
+                    wanted = -4 if 1 <= samples <= 8 and weights == 2 * samples else -1
+                    self.assertEqual(told, [[wanted], FIRSTS[17][1]])
+
+    def test_rows_with_the_greatest_numbers(self):
+        row = [10 ** 18, -10 ** 18] * 20
+        self.assertEqual(run((11, 0, 0, 0, 40, *row, 40, *row), (TOLD,)), [[-1], FIRSTS[17][1]])
+        self.assertEqual(run((11, 10 ** 18, 0, 0, 40, *row, 0), (TOLD,)), [[-1], FIRSTS[17][1]])
+
+    def test_two_checks_one_behind_another(self):
+        check = check_call((50, 0, 0), [1], [(1, 1)])
+        told = run((2, 0, 0, 0, 9), check, check, check_call((50, 0, 0), [], []), check)
+        self.assertEqual(told[1:], [[0, 1, 1, 3, 1, 9, 1], [0, 1, 1, 3, 1, 9, 1], [-1], [0, 1, 1, 3, 1, 9, 1]])
+
     def test_any_call_may_come_first(self):
-        firsts = [
-            ((0, 1, 1, 1, 1, 1), [0]), ((1, 1, 1, 1, 1, 1, 1), [0]), ((2, 0, 0, 0, 0), [0, 1]), ((3, 1), [-4]),
-            ((4, 1, 1), [-4]), ((5, 0, 0, 0, 0, 0, 0), [0, 2, 1]), ((6, 0, 0, 0), [0, 0]), ((7, 0, 0, 0), [-5]),
-            ((8, 0, 0, 0, 1, 1, 1, 1, 1, 1), [-5]),
-        ]
-        for call, wanted in firsts:
+        self.assertEqual([call[0] for call, wanted in FIRSTS], list(range(18)))
+        for call, wanted in FIRSTS:
             with self.subTest(call=call):
                 self.assertEqual(run(call), [wanted])
+                self.assertEqual(answers(list(call)), [len(wanted)] + wanted)
+
+    def test_any_call_may_come_first_and_all_the_others_behind_it(self):
+        for first, wanted in FIRSTS:
+            calls = [first] + ALL
+            told = run(*calls)
+            self.assertEqual(told[0], wanted)
+            reference = Reference()
+            for call, answer in zip(calls, told):
+                with self.subTest(first=first, call=call):
+                    reference.check(self, call, answer)
+
+    def test_all_18_calls_in_one_list(self):
+        self.assertEqual(sorted(set(call[0] for call in ALL)), list(range(18)))
+        told = run(*ALL)
+        self.assertEqual(len(told), len(ALL))
+        self.assertTrue(all(answer[0] == 0 for answer in told))
+        reference = Reference()
+        for call, answer in zip(ALL, told):
+            with self.subTest(call=call):
+                reference.check(self, call, answer)
+
+    def test_no_counts_but_those_that_the_words_tell(self):
+        told = dict(zip([call[0] for call in ALL[:19]], run(*ALL)))
+        lengths = [(5, 3), (6, 2 + 3), (7, 8 + 3 * 3), (9, 8 + 3 * 3), (10, 1 + 3 * 3), (11, 7), (12, 6 + 3 * 3),
+                   (13, 3), (14, 3), (15, 4 + 3), (16, 8), (17, 13 + 5 * 3)]
+        for kind, length in lengths:
+            with self.subTest(kind=kind):
+                self.assertEqual(len(told[kind]), length)
 
     def test_a_hundred_calls(self):
         calls = [(SAMPLE, x, 0, 0, x) for x in range(20)] + [(NEAR, 0, 0, 0)] * 68 + [(POINT, 30, 0, 0)] * 12

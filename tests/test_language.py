@@ -162,6 +162,69 @@ class Language(unittest.TestCase):
                     if isinstance(node, ast.Call) and isinstance(node.func, ast.Attribute):
                         self.assertIn(node.func.attr, METHODS + own)
 
+    def test_a_power_has_a_written_exponent(self):
+        for name, text, tree in parsed_files():
+            with self.subTest(file=name):
+                for node in ast.walk(tree):
+                    if isinstance(node, (ast.BinOp, ast.AugAssign)) and isinstance(node.op, ast.Pow):
+                        exponent = node.right if isinstance(node, ast.BinOp) else node.value
+                        self.assertIsInstance(exponent, ast.Constant)
+                        self.assertIn(exponent.value, range(65))
+
+    def test_is_stands_beside_none_true_and_false_alone(self):
+        for name, text, tree in parsed_files():
+            with self.subTest(file=name):
+                for node in ast.walk(tree):
+                    if isinstance(node, ast.Compare):
+                        for sign, right in zip(node.ops, node.comparators):
+                            if isinstance(sign, (ast.Is, ast.IsNot)):
+                                self.assertIsInstance(right, ast.Constant)
+                                self.assertIn(right.value, (None, True, False))
+
+    def test_keywords(self):
+        wanted = {"sorted": ["key", "reverse"], "min": ["key", "default"], "max": ["key", "default"],
+                  "sum": ["start"], "enumerate": ["start"], "zip": ["strict"]}
+        for name, text, tree in parsed_files():
+            with self.subTest(file=name):
+                own = [node.name for node in tree.body if isinstance(node, (ast.FunctionDef, ast.ClassDef))]
+                for node in ast.walk(tree):
+                    if isinstance(node, ast.Call) and isinstance(node.func, ast.Name) and node.func.id not in own:
+                        for keyword in node.keywords:
+                            self.assertIn(keyword.arg, wanted.get(node.func.id, []))
+
+    def test_walks_are_not_kept_and_sets_stand_where_they_may(self):
+        around = ("list", "tuple", "dict", "sorted", "sum", "any", "all", "enumerate", "zip", "min", "max")
+        for name, text, tree in parsed_files():
+            above = {child: node for node in ast.walk(tree) for child in ast.iter_child_nodes(node)}
+            with self.subTest(file=name):
+                for node in ast.walk(tree):
+                    if not isinstance(node, ast.Call):
+                        continue
+                    called = getattr(node.func, "id", getattr(node.func, "attr", None))
+                    parent = above[node]
+                    within = getattr(getattr(parent, "func", None), "id", None)
+                    if called in ("zip", "enumerate", "reversed", "range", "items", "keys", "values"):
+                        walked = isinstance(parent, (ast.For, ast.comprehension)) and parent.iter is node
+                        self.assertTrue(walked or within in around, node.lineno)
+                    if called == "set":
+                        self.assertTrue(isinstance(parent, ast.Compare) or within in ("sorted", "len"), node.lineno)
+
+    def test_what_stands_at_a_files_top_is_only_read(self):
+        for name, text, tree in parsed_files():
+            above = {child: node for node in ast.walk(tree) for child in ast.iter_child_nodes(node)}
+            kept = [node.targets[0].id for node in tree.body if isinstance(node, ast.Assign)
+                    and isinstance(node.value, (ast.List, ast.Dict))]
+            with self.subTest(file=name):
+                for node in ast.walk(tree):
+                    if isinstance(node, ast.Name) and node.id in kept and isinstance(node.ctx, ast.Load):
+                        parent = above[node]
+                        read = isinstance(parent, ast.Subscript) and isinstance(parent.ctx, ast.Load)
+                        got = isinstance(parent, ast.Attribute) and parent.attr == "get"
+                        self.assertTrue(read or got, node.lineno)
+                    if isinstance(node, (ast.List, ast.Dict)) and above.get(above.get(node)) is tree:
+                        for part in ast.walk(node):
+                            self.assertTrue(part is node or not isinstance(part, (ast.List, ast.Dict)))
+
 
 if __name__ == "__main__":
     unittest.main()

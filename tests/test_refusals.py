@@ -2,7 +2,8 @@
 
 import unittest
 
-from words import BLOCK, COV, DROP, MODEL, NEAR, POINT, SAMPLE, SEARCH, VALUE, last, run
+from words import (BLOCK, CELLS, CHECK, COV, CROSS, DROP, INVERSE, LINE, MEAN, MODEL, NEAR, NEAREST, POINT, SAMPLE,
+                   SEARCH, SIMPLE, TOLD, VALUE, check_call, last, run)
 
 GREATEST = 10 ** 18
 COORDINATE = (-1000, 1000)
@@ -19,6 +20,12 @@ RANGES = [
     ((NEAR, 1, 2, 3), [COORDINATE] * 3),
     ((POINT, 1, 2, 3), [COORDINATE] * 3),
     ((BLOCK, 1, 2, 3, 4, 5, 6, 2, 2, 2), [COORDINATE] * 3 + [(1, 100)] * 3 + [(1, 4)] * 3),
+    ((SIMPLE, 1, 2, 3, 4), [COORDINATE] * 3 + [VALUES]),
+    ((LINE, 1, 2, 3, 4, 5, 6, 7), [COORDINATE] * 3 + [(-100, 100)] * 3 + [(1, 10)]),
+    ((CHECK, 1, 2, 3, 1, 1, 2, 1, 1), [COORDINATE] * 3 + [None] * 3 + [(-1000000, 1000000), (1, 1000000)]),
+    ((NEAREST, 1, 2, 3), [COORDINATE] * 3),
+    ((INVERSE, 1, 2, 3, 2), [COORDINATE] * 3 + [(1, 3)]),
+    ((CELLS, 1, 2, 3, 4, 5, 6), [COORDINATE] * 3 + [(1, 1000)] * 3),
 ]
 
 # Each thing that is kept shows itself in what these answer.
@@ -33,6 +40,7 @@ BEFORE = [
     (SAMPLE, 19, 1, 1, 15),
 ]
 BEHIND = [
+    (TOLD,),
     (COV, 0, 0, 0, 1, 2, 3),
     (COV, 0, 0, 0, 0, 0, 0),
     (NEAR, 1, 2, 3),
@@ -88,7 +96,7 @@ class OutOfRange(unittest.TestCase):
         # Sample 2 stands by each of the ground's ends, so that point and block are answered there.
         for end in (0, 1):
             for call, ranges in RANGES:
-                edge = tuple(1 if bounds is None else bounds[end] for bounds in ranges)
+                edge = tuple(own if bounds is None else bounds[end] for own, bounds in zip(call[1:], ranges))
                 with self.subTest(call=call[0], edge=edge):
                     place = (999, 999, 999) if end else (-999, -999, -999)
                     told = last((SAMPLE, 0, 0, 0, 1), (SAMPLE, *place, 1), (call[0], *edge))
@@ -99,6 +107,7 @@ class OutOfRange(unittest.TestCase):
             with self.subTest(number=number):
                 self.assertEqual(last((SAMPLE, 0, 0, 0, 1), (DROP, number)), [-4])
                 self.assertEqual(last((SAMPLE, 0, 0, 0, 1), (VALUE, number, 1)), [-4])
+                self.assertEqual(last((SAMPLE, 0, 0, 0, 1), check_call((0, 0, 0), [number], [(1, 1)])), [-4])
 
 
 class Order(unittest.TestCase):
@@ -126,6 +135,28 @@ class Order(unittest.TestCase):
         self.assertEqual(last((POINT, 0, 0, 1000)), [-5])
         self.assertEqual(last((BLOCK, 0, 0, 0, 1, 1, 1, 1, 1, 5)), [-1])
         self.assertEqual(last((BLOCK, 0, 0, 0, 1, 1, 1, 1, 1, 4)), [-5])
+        self.assertEqual(last((SIMPLE, 0, 0, 0, 1000001)), [-1])
+        self.assertEqual(last((SIMPLE, 0, 0, 0, 1000000)), [-5])
+        self.assertEqual(last((NEAREST, 0, 1001, 0)), [-1])
+        self.assertEqual(last((NEAREST, 0, 1000, 0)), [-5])
+        self.assertEqual(last((INVERSE, 0, 0, 0, 4)), [-1])
+        self.assertEqual(last((INVERSE, 0, 0, 0, 0)), [-1])
+        self.assertEqual(last((INVERSE, 0, 0, 0, 3)), [-5])
+        self.assertEqual(last((CELLS, 0, 0, 0, 1, 1, 1001)), [-1])
+        self.assertEqual(last((CELLS, 0, 0, 0, 1, 1, 0)), [-1])
+        self.assertEqual(last((CELLS, 0, 0, 0, 1, 1, 1000)), [-5])
+
+    def test_line_and_cross_and_told_are_never_refused_for_too_few(self):
+        self.assertEqual(last((LINE, 0, 0, 0, 0, 0, 0, 1)), [0, 0, 0, 1])
+        self.assertEqual(last((LINE, 0, 0, 0, 0, 0, 0, 0)), [-1])
+        self.assertEqual(last((CROSS,)), [0, 0, 0, 1, 0, 1])
+        self.assertEqual(last((TOLD,))[0], 0)
+
+    def test_out_of_range_before_no_such_sample_in_check(self):
+        self.assertEqual(last(check_call((0, 0, 0), [1], [(1, 1)])), [-4])
+        self.assertEqual(last(check_call((0, 0, 0), [1], [(1, 0)])), [-1])
+        self.assertEqual(last(check_call((0, 0, 0), [1], [1])), [-1])
+        self.assertEqual(last(check_call((-1001, 0, 0), [1], [(1, 1)])), [-1])
 
 
 class AllIsAsItWas(unittest.TestCase):
@@ -154,15 +185,34 @@ class AllIsAsItWas(unittest.TestCase):
             with self.subTest(number=number):
                 self.check_refused(BEFORE, (DROP, number), -4)
                 self.check_refused(BEFORE, (VALUE, number, 77), -4)
+                self.check_refused(BEFORE, check_call((0, 0, 0), [1, number], [(1, 2), (1, 2)]), -4)
+        self.check_refused(BEFORE, check_call((0, 0, 0), [1, 3, 1], [(1, 2), (1, 2), (1, 2)]), -4)
+
+    def test_after_a_row_that_is_not_as_told(self):
+        for numbers, weights in [([], []), ([1], [1]), ([1], [1, 1, 1]), ([1] * 9, [1] * 18), ([1] * 40, [1] * 40)]:
+            with self.subTest(numbers=numbers, weights=weights):
+                self.check_refused(BEFORE, check_call((0, 0, 0), numbers, weights), -1)
 
     def test_after_too_few(self):
         self.check_refused(BEFORE, (POINT, 1000, 0, 0), -5)
         self.check_refused(BEFORE, (BLOCK, 1000, 0, 0, 1, 1, 1, 4, 4, 4), -5)
+        self.check_refused(BEFORE, (SIMPLE, 1000, 0, 0, 5), -5)
+        self.check_refused(BEFORE, (INVERSE, 1000, 0, 0, 2), -5)
+
+    def test_after_none(self):
+        emptied = BEFORE + [(DROP, number) for number in (1, 3, 4, 5)]
+        for call in [(NEAREST, 0, 0, 0), (CELLS, 0, 0, 0, 1, 1, 1), (MEAN,)]:
+            with self.subTest(call=call):
+                self.check_refused(emptied, call, -5)
 
     def test_asking_changes_nothing_either(self):
         untouched = run(*BEFORE, *BEHIND)
-        for call in [(COV, 1, 2, 3, 4, 5, 6), (NEAR, 1, 2, 3), (POINT, 0, 0, 0), (BLOCK, 0, 0, 0, 1, 1, 1, 4, 4, 4)]:
+        for call in [(COV, 1, 2, 3, 4, 5, 6), (NEAR, 1, 2, 3), (POINT, 0, 0, 0), (BLOCK, 0, 0, 0, 1, 1, 1, 4, 4, 4),
+                     (SIMPLE, 0, 0, 0, 7), (LINE, 0, 0, 0, 1, 2, 3, 10),
+                     check_call((0, 0, 0), [3, 1], [(1, 2), (1, 3)]), (CROSS,), (NEAREST, 1, 2, 3),
+                     (INVERSE, 1, 2, 3, 3), (CELLS, 1, 2, 3, 4, 5, 6), (MEAN,), (TOLD,)]:
             told = run(*BEFORE, call, *BEHIND)
+            self.assertEqual(told[len(BEFORE)][0], 0)
             self.assertEqual(told[:len(BEFORE)] + told[len(BEFORE) + 1:], untouched)
 
 
